@@ -1,0 +1,1 @@
+"""Words over places, and machines that meet at shared letters."""
