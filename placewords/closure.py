@@ -1,7 +1,8 @@
 """Closed sets, faults of closure, and the automaton of all least words."""
 
 from placewords.alphabets import independent, independent_pairs
-from placewords.automata import Automaton, final_marks, least
+from placewords.automata import final_marks, least
+from placewords.explored import explored
 from placewords.paths import spelled
 
 
@@ -60,21 +61,12 @@ def least_words(alphabet):
     """Return the least automaton of all least words."""
     # A state is the tuple of the letters that could have come earlier, ahead of a greater one,
     # and so may not come now; None stands behind a word that is not least.
-    many = len(alphabet.letters)
-    states = [()]
-    numbers = {(): 0}
-    rows = []
-    while len(rows) < len(states):
-        row = []
-        for letter in range(many):
-            state = _barred(alphabet, states[len(rows)], letter)
-            if state not in numbers:
-                numbers[state] = len(states)
-                states.append(state)
-            row.append(numbers[state])
-        rows.append(row)
-    finals = [number for number, state in enumerate(states) if state is not None]
-    return least(Automaton(many, 0, finals, rows))
+    return explored(
+        len(alphabet.letters),
+        (),
+        lambda state, letter: _barred(alphabet, state, letter),
+        lambda state: state is not None,
+    )
 
 
 def _barred(alphabet, state, letter):

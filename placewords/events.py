@@ -5,15 +5,20 @@ from placewords.alphabets import place_masks
 
 def is_below(alphabet, word, first, second):
     """Tell whether the first event is the second one, or lies below it."""
-    if first >= second:
-        return first == second
+    return second in events_above(alphabet, word, first)
+
+
+def events_above(alphabet, word, first):
+    """Return the events that an event is below, itself among them, in ascending order."""
     masks = place_masks(alphabet)
-    # The places at which something above the first event has happened so far.
+    # The places at which something above the event has happened so far.
     reached = masks[word[first]]
-    for event in range(first + 1, second):
+    events = [first]
+    for event in range(first + 1, len(word)):
         if masks[word[event]] & reached != 0:
             reached = reached | masks[word[event]]
-    return masks[word[second]] & reached != 0
+            events.append(event)
+    return events
 
 
 def view(alphabet, word, place):

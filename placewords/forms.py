@@ -23,11 +23,12 @@ def ready_letters(alphabet, queues, heads):
     return [
         letter
         for letter in range(len(alphabet.letters))
-        if _is_ready(alphabet, queues, heads, letter)
+        if is_ready(alphabet, queues, heads, letter)
     ]
 
 
-def _is_ready(alphabet, queues, heads, letter):
+def is_ready(alphabet, queues, heads, letter):
+    """Tell whether a letter comes next, behind the heads, in the queue of each of its places."""
     for place in alphabet.letters[letter]:
         head = heads[place]
         if head >= len(queues[place]) or queues[place][head] != letter:
@@ -35,17 +36,27 @@ def _is_ready(alphabet, queues, heads, letter):
     return True
 
 
+def moved_heads(alphabet, heads, letter):
+    """Return the heads behind a letter, which is taken off the queues of its places."""
+    places = alphabet.letters[letter]
+    return tuple([head + (1 if place in places else 0) for place, head in enumerate(heads)])
+
+
+def taken_letters(alphabet, queues):
+    """Return the letters that happen if always the first ready one does, until none is ready."""
+    heads = tuple([0] * alphabet.places)
+    found = []
+    ready = ready_letters(alphabet, queues, heads)
+    while len(ready) > 0:
+        found.append(ready[0])
+        heads = moved_heads(alphabet, heads, ready[0])
+        ready = ready_letters(alphabet, queues, heads)
+    return tuple(found)
+
+
 def least_form(alphabet, word):
     """Return the least word that is equivalent to a word."""
-    queues = place_words(alphabet, word)
-    heads = [0] * alphabet.places
-    found = []
-    while len(found) < len(word):
-        letter = ready_letters(alphabet, queues, heads)[0]
-        found.append(letter)
-        for place in alphabet.letters[letter]:
-            heads[place] += 1
-    return tuple(found)
+    return taken_letters(alphabet, place_words(alphabet, word))
 
 
 def is_least(alphabet, word):

@@ -88,13 +88,20 @@ class Machines:
         return state[at:at + self.size]
 
 
+def states_behind(machines, alphabet, states, letter):
+    """Return the local states of all places behind a letter, which is handed to its own places
+    alone."""
+    places = alphabet.letters[letter]
+    behind = list(states)
+    met = machines.meet(letter, tuple([states[place] for place in places]))
+    for place, state in zip(places, met):
+        behind[place] = state
+    return tuple(behind)
+
+
 def run_apart(machines, alphabet, word):
-    """Return the local states of all places behind a word; each letter is handed to its own
-    places alone."""
-    states = list(machines.start())
+    """Return the local states of all places behind a word."""
+    states = machines.start()
     for letter in word:
-        places = alphabet.letters[letter]
-        following = machines.meet(letter, tuple([states[place] for place in places]))
-        for place, state in zip(places, following):
-            states[place] = state
-    return tuple(states)
+        states = states_behind(machines, alphabet, states, letter)
+    return states

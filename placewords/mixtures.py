@@ -1,7 +1,8 @@
 """Mixtures of the sets of two automata, and shortest words in which they differ."""
 
 from placewords.automata import Automaton, final_marks, least
-from placewords.paths import spelled
+from placewords.explored import explored
+from placewords.paths import first_word
 
 
 def _is_wanted(kind, in_first, in_second):
@@ -14,30 +15,25 @@ def _is_wanted(kind, in_first, in_second):
     return in_first != in_second
 
 
+def _pair_steps(kind, first, second):
+    # What is behind a pair of states and a letter, and whether a pair is wanted.
+    ones = final_marks(first)
+    others = final_marks(second)
+
+    def step(pair, letter):
+        return (first.rows[pair[0]][letter], second.rows[pair[1]][letter])
+
+    def is_end(pair):
+        return _is_wanted(kind, ones[pair[0]], others[pair[1]])
+
+    return step, is_end
+
+
 def mixture(kind, first, second):
     """Return the least automaton of the words that both ("and"), or one or both ("or"), or the
     first and not the second ("minus") accept."""
-    pairs = [(first.start, second.start)]
-    numbers = {pairs[0]: 0}
-    rows = []
-    while len(rows) < len(pairs):
-        row = []
-        one, other = pairs[len(rows)]
-        for letter in range(first.letters):
-            pair = (first.rows[one][letter], second.rows[other][letter])
-            if pair not in numbers:
-                numbers[pair] = len(pairs)
-                pairs.append(pair)
-            row.append(numbers[pair])
-        rows.append(row)
-    ones = final_marks(first)
-    others = final_marks(second)
-    finals = [
-        number
-        for number, (one, other) in enumerate(pairs)
-        if _is_wanted(kind, ones[one], others[other])
-    ]
-    return least(Automaton(first.letters, 0, finals, rows))
+    step, is_end = _pair_steps(kind, first, second)
+    return explored(first.letters, (first.start, second.start), step, is_end)
 
 
 def other_words(automaton):
@@ -58,20 +54,5 @@ def gap(first, second):
 
 
 def _first_wanted(kind, first, second):
-    ones = final_marks(first)
-    others = final_marks(second)
-    pairs = [(first.start, second.start)]
-    came_from = {pairs[0]: None}
-    at = 0
-    # Pairs are found in the order of the least shortest words that lead to them.
-    while at < len(pairs):
-        one, other = pairs[at]
-        if _is_wanted(kind, ones[one], others[other]):
-            return spelled(came_from, pairs[at])
-        for letter in range(first.letters):
-            pair = (first.rows[one][letter], second.rows[other][letter])
-            if pair not in came_from:
-                came_from[pair] = (pairs[at], letter)
-                pairs.append(pair)
-        at += 1
-    return None
+    step, is_end = _pair_steps(kind, first, second)
+    return first_word(first.letters, (first.start, second.start), step, is_end)

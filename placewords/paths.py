@@ -11,3 +11,22 @@ def spelled(came_from, node):
         letters.append(letter)
         step = came_from[before]
     return tuple(reversed(letters))
+
+
+def first_word(letters, first, step, is_wanted):
+    """Return the shortest and then least word that leads from the first node to a wanted one, or
+    None. step gives the node behind a node and a letter, None if nothing wanted lies behind it."""
+    nodes = [first]
+    came_from = {first: None}
+    at = 0
+    # Nodes are found in the order of the shortest and then least words that lead to them.
+    while at < len(nodes):
+        if is_wanted(nodes[at]):
+            return spelled(came_from, nodes[at])
+        for letter in range(letters):
+            node = step(nodes[at], letter)
+            if node is not None and node not in came_from:
+                came_from[node] = (nodes[at], letter)
+                nodes.append(node)
+        at += 1
+    return None

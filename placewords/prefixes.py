@@ -3,7 +3,7 @@
 from math import comb
 
 from placewords.alphabets import components, independent
-from placewords.forms import least_form, ready_letters
+from placewords.forms import least_form, moved_heads, ready_letters
 from placewords.words import place_words
 
 
@@ -17,31 +17,35 @@ def rest(alphabet, first, second):
     return least_form(alphabet, _without(alphabet, second, first))
 
 
-def _without(alphabet, word, prefix):
+def events_behind(alphabet, word, prefix):
+    """Return the events of a word that are not in a prefix of it up to order."""
     # The prefix takes, of each letter, the first occurrences.
     taken = [0] * len(alphabet.letters)
     for letter in prefix:
         taken[letter] += 1
     left = []
-    for letter in word:
+    for event, letter in enumerate(word):
         if taken[letter] > 0:
             taken[letter] -= 1
         else:
-            left.append(letter)
+            left.append(event)
     return left
+
+
+def _without(alphabet, word, prefix):
+    return [word[event] for event in events_behind(alphabet, word, prefix)]
 
 
 def common_prefix(alphabet, first, second):
     """Return the least form of the greatest common prefix up to order."""
     ones = place_words(alphabet, first)
     others = place_words(alphabet, second)
-    heads = [0] * alphabet.places
+    heads = tuple([0] * alphabet.places)
     found = []
     letter = _ready_in_both(alphabet, ones, others, heads)
     while letter >= 0:
         found.append(letter)
-        for place in alphabet.letters[letter]:
-            heads[place] += 1
+        heads = moved_heads(alphabet, heads, letter)
         letter = _ready_in_both(alphabet, ones, others, heads)
     return tuple(found)
 
@@ -87,12 +91,7 @@ def _orders(alphabet, word):
         following = {}
         for heads, count in counts.items():
             for letter in ready_letters(alphabet, queues, heads):
-                behind = _moved(alphabet, heads, letter)
+                behind = moved_heads(alphabet, heads, letter)
                 following[behind] = following.get(behind, 0) + count
         counts = following
     return sum(list(counts.values()))
-
-
-def _moved(alphabet, heads, letter):
-    places = alphabet.letters[letter]
-    return tuple([heads[place] + (1 if place in places else 0) for place in range(len(heads))])

@@ -4,7 +4,7 @@ from placewords.alphabets import is_connected
 from placewords.automata import final_marks, least
 from placewords.closure import is_closed
 from placewords.errors import NotClosed, NotConnected
-from placewords.paths import spelled
+from placewords.paths import first_word
 from placewords.searches import CutSearch, RepeatSearch
 from placewords.subsets import searched
 
@@ -27,21 +27,15 @@ def unconnected_word(alphabet, automaton):
     """Return the shortest and then least word of the set that is not connected, or None."""
     many = len(alphabet.letters)
     marks = final_marks(automaton)
+
     # Nodes are pairs of a state and a number whose bits are set for the letters of the word.
-    nodes = [(automaton.start, 0)]
-    came_from = {nodes[0]: None}
-    at = 0
-    while at < len(nodes):
-        state, used = nodes[at]
-        if marks[state] and not is_connected(alphabet, _letters_of(used, many)):
-            return spelled(came_from, nodes[at])
-        for letter in range(many):
-            node = (automaton.rows[state][letter], used | (1 << letter))
-            if node not in came_from:
-                came_from[node] = (nodes[at], letter)
-                nodes.append(node)
-        at += 1
-    return None
+    def step(node, letter):
+        return (automaton.rows[node[0]][letter], node[1] | (1 << letter))
+
+    def is_unconnected(node):
+        return marks[node[0]] and not is_connected(alphabet, _letters_of(node[1], many))
+
+    return first_word(many, (automaton.start, 0), step, is_unconnected)
 
 
 def _letters_of(used, many):

@@ -11,7 +11,7 @@ BUILTINS = set(
     "len range enumerate zip min max sum abs sorted reversed int str bool list tuple dict set isinstance "
     "ord repr any all divmod ValueError".split()
 )
-LIBRARY = {"math": {"comb"}}
+LIBRARY = {"math": {"comb", "gcd"}}
 METHODS = set(
     "append clear copy count endswith extend find get index insert isalnum isalpha isdigit islower isspace "
     "isupper items join keys ljust lower lstrip partition pop remove replace reverse rfind rjust rpartition "
@@ -171,6 +171,20 @@ class LanguageTest(unittest.TestCase):
                         if isinstance(node.value, ast.Name):
                             changed = node.value.id
                     self.assertNotIn(changed, over, (name, node.lineno if changed else 0))
+
+    def test_no_two_lambdas_stand_on_one_line(self):
+        for name, _, tree in modules():
+            lines = [node.lineno for node in ast.walk(tree) if isinstance(node, ast.Lambda)]
+            self.assertEqual(len(lines), len(set(lines)), name)
+
+    def test_no_name_is_a_method_and_an_attribute_of_one_class(self):
+        for name, _, tree in modules():
+            for node in ast.walk(tree):
+                if isinstance(node, ast.ClassDef):
+                    methods = {part.name for part in node.body if isinstance(part, ast.FunctionDef)}
+                    stored = {part.attr for part in ast.walk(node)
+                              if isinstance(part, ast.Attribute) and isinstance(part.ctx, ast.Store)}
+                    self.assertEqual(methods & stored, set(), name)
 
     def test_modules_have_only_plain_values(self):
         for name, _, tree in modules():
