@@ -1,9 +1,9 @@
 """Place sets, and words that a set implies by what it has at each place."""
 
-from placewords.automata import Automaton, final_marks, least
+from placewords.automata import final_marks, least
 from placewords.paths import first_word
 from placewords.remainders import ending_marks
-from placewords.statesets import StateSets, turned
+from placewords.statesets import sets_automaton
 
 
 def place_set(alphabet, automaton, place):
@@ -16,37 +16,11 @@ def place_set(alphabet, automaton, place):
     ]
     first = masks[small.start]
     finals = sum([1 << state for state in small.finals])
-    # The sets can be very many in one direction and few in the other one.
-    forth = StateSets(first, steps)
-    back = StateSets(finals, turned(steps))
-    while not forth.is_whole() and not back.is_whole():
-        forth.grow()
-        back.grow()
-    if forth.is_whole():
-        return _automaton_of(forth, finals)
-    return _automaton_of(_turned_sets(back, first), 1)
-
-
-def _automaton_of(sets, finals):
-    return least(Automaton(len(sets.steps), 0, sets.numbers_with(finals), sets.rows))
-
-
-def _turned_sets(sets, ends):
-    # Sets of the numbers of the sets that were found on the way back. Of two different ones some
-    # number is in one only, and the words that led to it on the way back end in this one only: so
-    # there are no more of them than the least automaton has states.
-    steps = [[1 << row[letter] for row in sets.rows] for letter in range(len(sets.steps))]
-    first = sum([1 << number for number in sets.numbers_with(ends)])
-    back = StateSets(first, turned(steps))
-    while not back.is_whole():
-        back.grow()
-    return back
+    return sets_automaton(first, steps, finals)
 
 
 def _silent_masks(alphabet, automaton, place):
-    # For each state the bits of the states to which words lead that never happen at the place, as
-    # far as some word of the set goes on from there.
-    live = ending_marks(automaton, list(range(automaton.letters)))
+    # For each state the bits of the states to which words lead that never happen at the place.
     silent = [
         letter for letter in range(automaton.letters) if place not in alphabet.letters[letter]
     ]
@@ -62,7 +36,7 @@ def _silent_masks(alphabet, automaton, place):
                     seen[row[letter]] = True
                     found.append(row[letter])
             at += 1
-        masks.append(sum([1 << other for other in found if live[other]]))
+        masks.append(sum([1 << other for other in found]))
     return masks
 
 

@@ -2,6 +2,7 @@
 
 from placewords.alphabets import is_connected
 from placewords.automata import final_marks, least
+from placewords.bits import bits_of
 from placewords.closure import is_closed
 from placewords.errors import NotClosed, NotConnected
 from placewords.paths import first_word
@@ -33,13 +34,9 @@ def unconnected_word(alphabet, automaton):
         return (automaton.rows[node[0]][letter], node[1] | (1 << letter))
 
     def is_unconnected(node):
-        return marks[node[0]] and not is_connected(alphabet, _letters_of(node[1], many))
+        return marks[node[0]] and not is_connected(alphabet, bits_of(node[1]))
 
     return first_word(many, (automaton.start, 0), step, is_unconnected)
-
-
-def _letters_of(used, many):
-    return [letter for letter in range(many) if used & (1 << letter) != 0]
 
 
 def repetition(alphabet, automaton):

@@ -11,18 +11,29 @@ class Team:
     of the final combinations of states of all places."""
 
     def __init__(self, alphabet, sizes, starts, tables, finals):
-        _check_sizes(alphabet, sizes)
-        _check_combination(sizes, starts)
-        if len(tables) != len(alphabet.letters):
-            raise InvalidTeam("a team has one table for each letter")
+        check_parts(alphabet, sizes, tables, finals)
+        check_combination(sizes, starts)
         for places, table in zip(alphabet.letters, tables):
-            _check_table([sizes[place] for place in places], table)
-        _check_finals(_rank_count(sizes), finals)
+            own_sizes = [sizes[place] for place in places]
+            for combination in table:
+                check_combination(own_sizes, combination)
         self.alphabet = alphabet
         self.sizes = tuple(sizes)
         self.starts = tuple(starts)
         self.tables = tuple([tuple([tuple(row) for row in table]) for table in tables])
         self.finals = tuple(finals)
+
+
+def check_parts(alphabet, sizes, tables, finals):
+    """Raise InvalidTeam if the numbers of states or the ranks of final combinations are refused,
+    or if there is not one table for each letter, and in it one row for each rank."""
+    _check_sizes(alphabet, sizes)
+    if len(tables) != len(alphabet.letters):
+        raise InvalidTeam("a team has one table for each letter")
+    for places, table in zip(alphabet.letters, tables):
+        if len(table) != rank_count([sizes[place] for place in places]):
+            raise InvalidTeam("a table has one row for each rank")
+    _check_finals(rank_count(sizes), finals)
 
 
 def _check_sizes(alphabet, sizes):
@@ -31,21 +42,6 @@ def _check_sizes(alphabet, sizes):
     for size in sizes:
         if not 1 <= size <= MOST_STATES:
             raise InvalidTeam("a place of a team has 1 to 5 states")
-
-
-def _check_combination(sizes, combination):
-    if len(combination) != len(sizes):
-        raise InvalidTeam("a combination has one state for each place")
-    for size, state in zip(sizes, combination):
-        if not 0 <= state < size:
-            raise InvalidTeam("a state is not there")
-
-
-def _check_table(sizes, table):
-    if len(table) != _rank_count(sizes):
-        raise InvalidTeam("a table has one combination for each rank")
-    for combination in table:
-        _check_combination(sizes, combination)
 
 
 def _check_finals(many, finals):
@@ -57,7 +53,18 @@ def _check_finals(many, finals):
             raise InvalidTeam("the ranks of the final combinations do not ascend")
 
 
-def _rank_count(sizes):
+def check_combination(sizes, combination):
+    """Raise InvalidTeam if a combination does not have a state for each place, or one that is not
+    there."""
+    if len(combination) != len(sizes):
+        raise InvalidTeam("a combination has one state for each place")
+    for size, state in zip(sizes, combination):
+        if not 0 <= state < size:
+            raise InvalidTeam("a state is not there")
+
+
+def rank_count(sizes):
+    """Return the number of combinations for places with these numbers of states."""
     many = 1
     for size in sizes:
         many = many * size
@@ -81,32 +88,41 @@ def combination_of(sizes, rank):
     return tuple(reversed(states))
 
 
-def _changed(team, combination, letter):
-    # The combination of the states of all places behind one more letter.
+def row_behind(team, combination, letter):
+    """Return what the table of a letter has for a combination of states of all places."""
     places = team.alphabet.letters[letter]
     sizes = [team.sizes[place] for place in places]
-    rank = rank_of(sizes, [combination[place] for place in places])
-    states = list(combination)
-    for place, state in zip(places, team.tables[letter][rank]):
-        states[place] = state
-    return tuple(states)
+    return team.tables[letter][rank_of(sizes, [combination[place] for place in places])]
+
+
+def changed(team, combination, letter, states):
+    """Return a combination of states of all places with other states at the places of a letter."""
+    behind = list(combination)
+    for place, state in zip(team.alphabet.letters[letter], states):
+        behind[place] = state
+    return tuple(behind)
+
+
+def _next_combination(team, combination, letter):
+    return changed(team, combination, letter, row_behind(team, combination, letter))
 
 
 def team_state(team, word):
     """Return the combination of the states of all places behind a word."""
     combination = team.starts
     for letter in word:
-        combination = _changed(team, combination, letter)
+        combination = _next_combination(team, combination, letter)
     return combination
 
 
-def _is_final(team, combination):
+def is_final(team, combination):
+    """Tell whether a combination of states of all places is final."""
     return rank_of(team.sizes, combination) in team.finals
 
 
 def team_accepts(team, word):
     """Tell whether the combination behind a word is final."""
-    return _is_final(team, team_state(team, word))
+    return is_final(team, team_state(team, word))
 
 
 def team_automaton(team):
@@ -114,6 +130,6 @@ def team_automaton(team):
     return explored(
         len(team.alphabet.letters),
         team.starts,
-        lambda combination, letter: _changed(team, combination, letter),
-        lambda combination: _is_final(team, combination),
+        lambda combination, letter: _next_combination(team, combination, letter),
+        lambda combination: is_final(team, combination),
     )

@@ -150,3 +150,27 @@ def is_numbered_and_least(automaton):
         if not more:
             return len(different) == many * (many - 1)
         different |= more
+
+
+def plain_queues(alphabet, word):
+    """The words of all places."""
+    return [
+        tuple(letter for letter in word if place in alphabet.letters[letter]) for place in range(alphabet.places)
+    ]
+
+
+def plain_ready(alphabet, queues):
+    """The letters that are first in the queue of each of their places."""
+    return [
+        letter for letter, places in enumerate(alphabet.letters)
+        if all(queues[place][:1] == [letter] for place in places)
+    ]
+
+
+def happen(alphabet, machines, states, letter):
+    """Hand a letter to its places, whose local states in the list are replaced."""
+    places = alphabet.letters[letter]
+    following = machines.meet(letter, tuple(states[place] for place in places))
+    assert type(following) is tuple and len(following) == len(places)
+    for place, state in zip(places, following):
+        states[place] = state

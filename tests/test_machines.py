@@ -8,10 +8,10 @@ from placewords.expressions import expression_automaton
 from placewords.machines import Machines, run_apart
 
 from tests.samples import (
-    ALPHABETS, FREE, RING, SHARED, all_orders_automaton, automaton_of_words, closed_automaton, one_swap, orders,
+    ALPHABETS, FREE, RING, SHARED, all_orders_automaton, automaton_of_words, closed_automaton, happen, one_swap, orders,
     random_word,
 )
-from tests.test_news import all_alphabets, happen
+from tests.test_news import all_alphabets
 
 
 def closed_sets(rng, alphabet):

@@ -5,9 +5,9 @@ from placewords.alphabets import Alphabet
 from placewords.claims import truths
 from placewords.monitors import Monitors
 
-from tests.samples import ALPHABETS, CHAIN, RING, SHARED, one_swap, orders, random_word
+from tests.samples import ALPHABETS, CHAIN, RING, SHARED, happen, one_swap, orders, random_word
 from tests.test_claims import drawn_claim, first_claims
-from tests.test_news import all_alphabets, happen
+from tests.test_news import all_alphabets
 
 
 def expected_truths(alphabet, word, claim):

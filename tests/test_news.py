@@ -5,15 +5,7 @@ from placewords.alphabets import Alphabet
 from placewords.events import newest
 from placewords.news import News
 
-from tests.samples import ALPHABETS, CHAIN, RING, SHARED, orders, random_word
-
-
-def happen(alphabet, machines, states, letter):
-    places = alphabet.letters[letter]
-    following = machines.meet(letter, tuple(states[place] for place in places))
-    assert type(following) is tuple and len(following) == len(places)
-    for place, state in zip(places, following):
-        states[place] = state
+from tests.samples import ALPHABETS, CHAIN, RING, SHARED, happen, orders, random_word
 
 
 def all_alphabets(rng, many):

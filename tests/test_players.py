@@ -9,22 +9,9 @@ from placewords.machines import Machines
 from placewords.players import Player, queues_of, word_of
 
 from tests.samples import (
-    ALPHABETS, CHAIN, FREE, RING, SHARED, all_orders_automaton, closed_automaton, orders, random_word, short_words,
+    ALPHABETS, CHAIN, FREE, RING, SHARED, all_orders_automaton, closed_automaton, orders, plain_queues,
+    plain_ready, random_word, short_words,
 )
-
-
-def plain_queues(alphabet, word):
-    return [
-        tuple(letter for letter in word if place in alphabet.letters[letter]) for place in range(alphabet.places)
-    ]
-
-
-def plain_ready(alphabet, queues):
-    """The letters that are first in the queue of each of their places."""
-    return [
-        letter for letter, places in enumerate(alphabet.letters)
-        if all(queues[place][:1] == [letter] for place in places)
-    ]
 
 
 def a_machine(alphabet, seed=1):
