@@ -1,15 +1,8 @@
 """Cuts of words, and conditions for the last letters of a cut at all places."""
 
+from placewords.events import place_events
 from placewords.forms import moved_heads, ready_letters
 from placewords.words import place_words
-
-
-def _lines(alphabet, word):
-    # For each place the events that happen at it.
-    return [
-        [event for event, letter in enumerate(word) if place in alphabet.letters[letter]]
-        for place in range(alphabet.places)
-    ]
 
 
 def is_cut(alphabet, word, events):
@@ -18,7 +11,7 @@ def is_cut(alphabet, word, events):
     for event in events:
         if not 0 <= event < len(word):
             return False
-    for line in _lines(alphabet, word):
+    for line in place_events(alphabet, word):
         complete = True
         for event in line:
             if event in chosen and not complete:
@@ -50,7 +43,7 @@ def _last_letters(queues, heads):
 
 def least_cut(alphabet, word, conditions):
     """Return the least cut in which the conditions hold, an ascending list, or None."""
-    lines = _lines(alphabet, word)
+    lines = place_events(alphabet, word)
     queues = place_words(alphabet, word)
     heads = [0] * alphabet.places
     place = _unmet_place(_last_letters(queues, heads), conditions)

@@ -3,6 +3,14 @@
 from placewords.alphabets import place_masks
 
 
+def place_events(alphabet, word):
+    """Return for each place the ascending list of the events that happen at it."""
+    return [
+        [event for event, letter in enumerate(word) if place in alphabet.letters[letter]]
+        for place in range(alphabet.places)
+    ]
+
+
 def is_below(alphabet, word, first, second):
     """Tell whether the first event is the second one, or lies below it."""
     return second in events_above(alphabet, word, first)

@@ -14,6 +14,7 @@ class ErrorsTest(unittest.TestCase):
         self.assertEqual(PlaceError.__bases__, (ValueError,))
         for name in NAMES:
             self.assertEqual(getattr(errors, name).__bases__, (PlaceError,), name)
+            self.assertEqual(getattr(errors, name).__module__, "placewords.errors")
 
     def test_the_position_is_kept(self):
         error = ExpressionSyntaxError(8)

@@ -9,4 +9,4 @@ class ExamplesTest(unittest.TestCase):
     def test_the_examples_of_the_document(self):
         results = doctest.testfile(EXAMPLES, module_relative=False)
         self.assertEqual(results.failed, 0)
-        self.assertEqual(results.attempted, 83)
+        self.assertEqual(results.attempted, 126)

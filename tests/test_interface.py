@@ -69,6 +69,35 @@ INTERFACE = {
     "histories": {"History": "alphabet"},
     "merges": {"merge": "alphabet first second"},
     "finite": {"finite_automaton": "alphabet words"},
+    "halls": {"Hall": "alphabet machines queues"},
+    "ranks": {"rank_of_word": "alphabet word", "word_at_rank": "alphabet length rank"},
+    "loops": {"same_loop": "alphabet first second"},
+    "sides": {"place_product": "alphabet automata"},
+    "choices": {
+        "ChoiceTeam": "alphabet sizes starts tables finals", "choice_accepts": "team word",
+        "choice_automaton": "team",
+    },
+    "claimsets": {"claim_automaton": "alphabet claim place"},
+    "knowledge": {"is_true": "alphabet words word fact"},
+    "filetexts": {
+        "format_alphabet": "alphabet", "format_automaton": "automaton", "parse_alphabet": "text",
+        "parse_automaton": "text",
+    },
+    "orders": {
+        "accepted_order": "alphabet automaton word", "accepted_orders": "alphabet automaton word",
+    },
+    "times": {
+        "ending_times": "alphabet word times", "least_time": "alphabet word times",
+        "critical_chain": "alphabet word times",
+    },
+    "productteams": {"product_team": "alphabet automata"},
+    "charts": {
+        "Chart": "places messages", "line": "chart place", "surely_before": "chart first second",
+        "races": "chart",
+    },
+    "learners": {"Learner": "alphabet"},
+    "nearest": {"nearest_order": "alphabet automaton word"},
+    "widths": {"widest": "alphabet word"},
 }
 METHODS = {
     "News": {"start": "", "meet": "letter states", "compare": "first second place"},
@@ -79,6 +108,10 @@ METHODS = {
     "Ledger": {"happen": "letter", "known": "place letter"},
     "Monitors": {"start": "", "meet": "letter states", "truth": "state"},
     "History": {"happen": "letter", "undo": "number", "must_undo": "number", "events": "", "word": ""},
+    "Hall": {
+        "ask": "place", "hear": "message", "state": "place", "position": "place", "is_done": "", "crash": "place",
+    },
+    "Learner": {"question": "", "answer": "inside", "guess": "", "correct": "word"},
 }
 
 
