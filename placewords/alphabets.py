@@ -1,5 +1,6 @@
 """Alphabets: places, letters that happen at them, and which letters depend on one another."""
 
+from placewords.bits import mask_of
 from placewords.errors import InvalidAlphabet
 
 MOST_PLACES = 4
@@ -71,13 +72,7 @@ def is_connected(alphabet, letters):
 
 def place_masks(alphabet):
     """Return for each letter the number whose bits are set at the places of the letter."""
-    masks = []
-    for row in alphabet.letters:
-        mask = 0
-        for place in row:
-            mask = mask | (1 << place)
-        masks.append(mask)
-    return masks
+    return [mask_of(row) for row in alphabet.letters]
 
 
 def independent_pairs(alphabet):

@@ -1,5 +1,6 @@
 """Teams with choices: letters that may change the states of their places in several ways."""
 
+from placewords.bits import mask_of
 from placewords.errors import InvalidTeam
 from placewords.statesets import sets_automaton
 from placewords.teams import changed, check_combination, check_parts, is_final, row_behind
@@ -46,22 +47,21 @@ def choice_accepts(team, word):
 
 def choice_automaton(team):
     """Return the least automaton of the set of a team with choices."""
+    letters = list(range(len(team.alphabet.letters)))
     numbers = {}
     for combination in team.starts:
         numbers.setdefault(combination, len(numbers))
     first = (1 << len(numbers)) - 1
     found = list(numbers)
-    steps = [[] for _ in team.alphabet.letters]
-    at = 0
+    masks = []
     # Only combinations that can be reached get a number.
-    while at < len(found):
-        for letter, step in enumerate(steps):
-            behind = sorted(set(_next_combinations(team, found[at], letter)))
-            for combination in behind:
-                if combination not in numbers:
-                    numbers[combination] = len(found)
-                    found.append(combination)
-            step.append(sum([1 << numbers[combination] for combination in behind]))
-        at += 1
+    while len(masks) < len(found):
+        behind = [_next_combinations(team, found[len(masks)], letter) for letter in letters]
+        for combination in [after for row in behind for after in row]:
+            if combination not in numbers:
+                numbers[combination] = len(found)
+                found.append(combination)
+        masks.append([mask_of([numbers[after] for after in row]) for row in behind])
+    steps = [[row[letter] for row in masks] for letter in letters]
     finals = [number for number, combination in enumerate(found) if is_final(team, combination)]
-    return sets_automaton(first, steps, sum([1 << number for number in finals]))
+    return sets_automaton(first, steps, mask_of(finals))

@@ -36,8 +36,8 @@ def claim_automaton(alphabet, claim, place):
         return (tuple(lasts_behind), tuple(behind))
 
     nothing = false_row(parts)
-    chain = ((nothing, tuple(range(alphabet.places))),)
-    first = ((nothing,) * alphabet.places, (chain,) * alphabet.places)
+    first_chain = ((nothing, tuple(range(alphabet.places))),)
+    first = ((nothing,) * alphabet.places, (first_chain,) * alphabet.places)
     return explored(len(alphabet.letters), first, step, lambda node: node[0][place][-1])
 
 

@@ -1,6 +1,7 @@
 """Place sets, and words that a set implies by what it has at each place."""
 
 from placewords.automata import final_marks, least
+from placewords.bits import mask_of
 from placewords.paths import first_word
 from placewords.remainders import ending_marks
 from placewords.statesets import sets_automaton
@@ -15,7 +16,7 @@ def place_set(alphabet, automaton, place):
         for letter, places in enumerate(alphabet.letters)
     ]
     first = masks[small.start]
-    finals = sum([1 << state for state in small.finals])
+    finals = mask_of(small.finals)
     return sets_automaton(first, steps, finals)
 
 
@@ -36,7 +37,7 @@ def _silent_masks(alphabet, automaton, place):
                     seen[row[letter]] = True
                     found.append(row[letter])
             at += 1
-        masks.append(sum([1 << other for other in found]))
+        masks.append(mask_of(found))
     return masks
 
 

@@ -43,7 +43,6 @@ class Learner:
     def correct(self, word):
         """Take a word on which the guess is wrong."""
         self.answers[least_form(self.alphabet, word)] = not accepts(self.automaton, word)
-        self.wrong = tuple(word)
         self.asked = self._next_question()
 
     def _next_question(self):

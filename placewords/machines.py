@@ -6,6 +6,7 @@ states. The turn of a set of places is that of the events of the view that are n
 event, in this view, of a place of the set. A set of places is a number with their bits."""
 
 from placewords.automata import final_marks, least
+from placewords.bits import mask_of
 from placewords.closure import is_closed
 from placewords.errors import NotClosed, TooLarge
 from placewords.gossip import best_views, empty_table, known_labels, known_row, met_table
@@ -38,7 +39,7 @@ class Machines:
         rows = self._newest_rows(tables)
         state = list(met_table(self.alphabet, letter, tables))
         step = [row[letter] for row in self.automaton.rows]
-        own = sum([1 << place for place in self.alphabet.letters[letter]])
+        own = mask_of(self.alphabet.letters[letter])
         for chosen in range(1 << many):
             if chosen & own != 0:
                 # The new event is the newest one of its places, and all others are below it.

@@ -7,6 +7,7 @@ the one with more of them allows nothing that the other one does not allow, and 
 otherwise there would be far too many of them."""
 
 from placewords.alphabets import independent
+from placewords.bits import mask_of
 from placewords.remainders import Remainders
 
 
@@ -14,7 +15,7 @@ def _dependent_masks(alphabet):
     # For each letter the number whose bits are set for all letters that depend on it.
     many = len(alphabet.letters)
     return [
-        sum([1 << other for other in range(many) if not independent(alphabet, letter, other)])
+        mask_of([other for other in range(many) if not independent(alphabet, letter, other)])
         for letter in range(many)
     ]
 

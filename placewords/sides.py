@@ -1,5 +1,6 @@
 """Products of places: sets of the words that an automaton at each place accepts."""
 
+from placewords.bits import mask_of
 from placewords.explored import explored
 from placewords.remainders import Remainders
 
@@ -29,8 +30,8 @@ def place_product(alphabet, automata):
 
 def _kinds(alphabet, place, automaton):
     # For each state the one by which it can be replaced, as only letters of the place come.
-    elsewhere = [1 << at for at, places in enumerate(alphabet.letters) if place not in places]
-    return Remainders(automaton).states(sum(elsewhere))
+    elsewhere = [at for at, places in enumerate(alphabet.letters) if place not in places]
+    return Remainders(automaton).states(mask_of(elsewhere))
 
 
 def _node(states):

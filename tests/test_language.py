@@ -18,7 +18,7 @@ METHODS = set(
     "rsplit rstrip setdefault split splitlines startswith strip update upper values zfill bit_length".split()
 )
 REFUSED_NODES = (
-    ast.AsyncFunctionDef, ast.Await, ast.Global, ast.GeneratorExp, ast.JoinedStr, ast.AnnAssign,
+    ast.AsyncFunctionDef, ast.Await, ast.Global, ast.GeneratorExp, ast.AnnAssign,
     ast.Set, ast.SetComp, ast.Yield, ast.YieldFrom, ast.NamedExpr, ast.With, ast.Try, ast.Delete,
 )
 LAZY = {"range", "zip", "enumerate", "reversed"}
